@@ -292,7 +292,7 @@ func TestMany(t *testing.T) {
 	seed := uint32(1)
 	next := func(n uint32) uint32 {
 		seed = seed*1664525 + 1013904223
-		return seed >> 8 % n
+		return (seed >> 8) % n
 	}
 	for i := range 3000 {
 		var some int64
