@@ -220,6 +220,23 @@ func TestAllEnds(t *testing.T) {
 	}
 }
 
+// No class of a root is at 0, though there may be a class.
+func TestAClassAtZero(t *testing.T) {
+	m, _ := mem.New(128)
+	m.SetCell(0, Magic)
+	m.SetCell(64, Magic)
+	m.SetCell(48, 64)
+	if l := All(m, 48); len(l) != 1 || l[0].At != 64 {
+		t.Error(l)
+	}
+	if Is(m, 48, 0) {
+		t.Error("Is(0)")
+	}
+	if _, ok := Read(m, 0); !ok {
+		t.Error("Read(0)")
+	}
+}
+
 func TestGrow(t *testing.T) {
 	s := world(t, 256)
 	a := create(t, s, 0, 1)

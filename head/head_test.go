@@ -315,6 +315,27 @@ func TestMark(t *testing.T) {
 	}
 }
 
+func TestNoHead(t *testing.T) {
+	m, _ := mem.New(64)
+	for _, at := range []int64{-8, -16, 4, 48, 64} {
+		if e := Mark(m, Word{At: at}, 1); e != api.Argument {
+			t.Errorf("Mark at %d: %d", at, e)
+		}
+	}
+	if e := Mark(m, Word{}, 1); e != api.OK { // bytes 0 are a head of a word without a name
+		t.Error(e)
+	}
+	m.SetCell(16, 32)
+	m.SetCell(40, -256)
+	if l := Words(m, 16); len(l) != 0 {
+		t.Error("a second cell below 0", l)
+	}
+	m.SetCell(40, 256)
+	if l := Words(m, 16); len(l) != 1 {
+		t.Error(l)
+	}
+}
+
 func TestNil(t *testing.T) {
 	if len(Words(nil, 0)) != 0 || Mark(nil, Word{}, 0) != api.Argument {
 		t.Error("Words, Mark")

@@ -224,14 +224,14 @@ func TestNames(t *testing.T) {
 	}
 	for _, text := range []string{
 		"class a dup", "redefine dup x", "object dup x", ":: dup x", "variable v class a v", "8 constant c class a c", "0 constant c object c x",
-		"class a - implements dup", "variable v class a - implements v", counter + "class a - implements counter",
+		"8 constant c :: c f", "8 constant c redefine c f", "-8 constant c :: c f", "class a - implements dup", "variable v class a - implements v", counter + "class a - implements counter",
 	} {
 		fails(t, text, api.NoClass)
 	}
 	fresh(t, counter+"counter constant c2 class d c2 endclass object c2 o o -> get", api.OK, "", 0)
 	fresh(t, counter+"counter 8 + constant c2 class d c2", api.NoClass, "?-2048\n")
-	f := fresh(t, counter+"create odd 1003 -8 allot odd 8 - ! class d odd", api.NoClass, "?-2048\n")
-	_ = f
+	fails(t, counter+"variable v counter v ! class d v", api.NoClass) // its code isn't Constant
+	fails(t, counter+"variable v counter v ! 1003 ' v ! class d v nothing", api.Undefined)
 }
 
 func TestSelectorsFull(t *testing.T) {
@@ -274,6 +274,8 @@ func TestLists(t *testing.T) {
 	}
 	f = made(t)
 	is(t, f, "class a - ivar x endclass class b a endclass 7 a ! redefine b f x", api.Undefined, "?-13\n")
+	f = made(t)
+	is(t, f, "class a - ivar x endclass class b a endclass class c - endclass 7 a ! redefine b f x", api.Undefined, "?-13\n")
 }
 
 func TestEarly(t *testing.T) {
@@ -387,7 +389,16 @@ func TestAfterACode(t *testing.T) {
 	f := made(t)
 	is(t, f, counter+"redefine counter get 5 endm nothing", api.Undefined, "?-13\n")
 	is(t, f, "counter new -> get", api.OK, "", 5) // no state is saved any more
-	is(t, f, "drop class a - endclass nothing", api.Undefined, "?-13\n")
+	is(t, f, "drop redefine counter get n @ endm", api.OK, "")
+	if !slices.Equal(f.Order, []int64{f.List}) {
+		t.Error(f.Order)
+	}
+	here := f.Here()
+	is(t, f, "variable v nothing", api.Undefined, "?-13\n")
+	if f.Here() != here+40 {
+		t.Error("a state was saved")
+	}
+	is(t, f, "class a - endclass nothing", api.Undefined, "?-13\n")
 	is(t, f, "a new drop", api.OK, "")
 	is(t, f, "nothing\nclass b - ivar x nothing\nclass b - ivar x endclass b new drop", api.Undefined, "?-13\n?-13\n")
 }
@@ -425,13 +436,16 @@ func TestRoom(t *testing.T) {
 			t.Fatal("there was room", n)
 		}
 		r, _ := f.Cell(f.Root)
-		if e != api.DictOver && e != api.Control && e != api.Undefined || f.Here() != at || r != root || len(f.Order) != 1 {
+		if e != api.DictOver || f.Here() != at || r != root || len(f.Order) != 1 {
 			t.Fatal(n, e, f.Here()-at, r)
 		}
 		if n > 36 {
 			break
 		}
 	}
+	f.Back(here)
+	f.Allot(plain.Dict - here - 288) // enough for all but the list
+	is(t, f, "class a -", api.DictOver, "?-8\n")
 	f.Back(here)
 	f.Allot(plain.Dict - here - 16)
 	is(t, f, "object counter o", api.DictOver, "?-8\n")
@@ -443,6 +457,19 @@ func TestRoom(t *testing.T) {
 	if f.Here() != plain.Dict-16 {
 		t.Error(f.Here())
 	}
+	f.Back(here)
+	f.Allot(plain.Dict - here - 32)
+	is(t, f, "interface i a b endinterface", api.DictOver, "?-8\n")
+	if f.Here() != plain.Dict-8 { // the interface was made ahead of its word, too
+		t.Error(f.Here())
+	}
+	f.Back(here)
+	is(t, f, "class big - ivar a ivar b ivar c ivar d ivar e ivar f ivar g endclass", api.OK, "")
+	f.Allot(plain.Dict - f.Here() - 56)
+	is(t, f, "object big o", api.DictOver, "?-8\n")
+	is(t, f, "o", api.Undefined, "?-13\n")
+	f = made(t)
+	is(t, f, "class a - -1 8 @ 16 + ! ivar x", api.Argument, "?-256\n")
 }
 
 // A message enters the method that was set last in the object's class, or in the nearest one above.

@@ -117,6 +117,10 @@ func TestFuel(t *testing.T) {
 		}
 	}
 	o := made(t)
+	o.Fuel = 1
+	is(t, o, "5", api.OK, "", 5)
+	is(t, o, "6", api.Fuel, "?-2053\n")
+	o = made(t)
 	o.Fuel = 6
 	is(t, o, "1 2 + .", api.OK, "3 ")
 	is(t, o, "", api.OK, "")
@@ -397,6 +401,31 @@ func TestDictionaryFull(t *testing.T) {
 		t.Error(o.Here())
 	}
 	is(t, o, "s\" "+strings.Repeat("z", 41)+"\"", api.DictOver, "?-8\n")
+	o = made(t)
+	o.Allot(8192 - o.Here() - 24)
+	is(t, o, ": z", api.DictOver, "?-8\n")
+	if o.Compiling {
+		t.Error("without a word nothing is compiled")
+	}
+	for _, word := range []string{"if", "while", "begin until", "do", "begin again", "0 0 do loop", "exit", "recurse", "dup", "5", "char x", "' dup", "s\" a\"", ".\" a\"", ";", "if else", "begin while repeat"} {
+		o := made(t)
+		is(t, o, ": rest 8192 here - swap - allot ; immediate", api.OK, "")
+		here := o.Here()
+		parts := strings.SplitAfter(word, " ")
+		last := parts[len(parts)-1]
+		if strings.Contains(word, "\"") || strings.HasPrefix(word, "char") || strings.HasPrefix(word, "'") {
+			last, parts = word, nil
+		} else {
+			parts = parts[:len(parts)-1]
+		}
+		is(t, o, "0 : a "+strings.Join(parts, "")+" rest "+last+"\n", api.DictOver, "?-8\n")
+		if o.Here() != here || o.Compiling {
+			t.Error(word, o.Here())
+		}
+		if last == "if" || last == "until" || last == "s\" a\"" {
+			is(t, o, "8 : a "+strings.Join(parts, "")+" rest "+last+"\n", api.DictOver, "?-8\n")
+		}
+	}
 }
 
 func TestMake(t *testing.T) {
@@ -469,6 +498,9 @@ func TestExtend(t *testing.T) {
 		t.Error(resets, more)
 	}
 	o.Extend(nil, nil)
+	o.Extend(map[string]func(o *Outer) api.Code{"dup": nil}, nil)
+	is(t, o, "drop 5 dup", api.OK, "", 5, 1, 2)
+	is(t, o, "nothing", api.Undefined, "?-13\n")
 }
 
 func TestStartAndStop(t *testing.T) {
@@ -580,7 +612,7 @@ func TestNil(t *testing.T) {
 	if o.Text("1") != api.Argument || o.XT("dup") != 0 {
 		t.Error("Text, XT")
 	}
-	o.Extend(nil, nil)
+	o.Extend(map[string]func(o *Outer) api.Code{"a": func(o *Outer) api.Code { return api.OK }}, func() {})
 	o.Again("")
 	o.Keep()
 	o.Kept()

@@ -68,6 +68,11 @@ func TestStop(t *testing.T) {
 	is(t, p, "1 .", Told{1, api.OK, "1 "})
 	for range 3 {
 		p.Stop()
+		select {
+		case <-p.ended:
+		default:
+			t.Error("its goroutine hasn't ended")
+		}
 		if told, ok := p.Send("2 ."); told != (Told{}) || ok {
 			t.Error(told, ok)
 		}

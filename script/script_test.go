@@ -135,6 +135,14 @@ func TestMethods(t *testing.T) {
 	}
 }
 
+func TestOneMethod(t *testing.T) {
+	s := defaults()
+	s.Text = "class a - method x 1 endm"
+	if l := Methods(s, 0); !slices.Equal(l, []string{"x 0"}) {
+		t.Error(l)
+	}
+}
+
 // An entry whose class is none of theirs has no line.
 func TestMethodsOfNobody(t *testing.T) {
 	s := defaults()

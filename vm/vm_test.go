@@ -676,6 +676,65 @@ func TestCatchDamaged(t *testing.T) {
 	}
 }
 
+// HANDLER is what catch pushes last, so a word that it enters can see it.
+func TestHandler(t *testing.T) {
+	m := made(t, "")
+	see := xt(t, m, "r@")
+	for n, want := range map[int64]int64{0: 0, 3: 3, 1 << 20: 1 << 20, 1<<20 + 1: 0, -1: 0, least: 0, most: 0} {
+		m.D.Drop(0)
+		m.R.Drop(0)
+		change := define(t, m, "r>", "drop", "r>", "drop", "lit", n, ">r", "abort")
+		if e := m.Run(define(t, m, "lit", change, "catch", "drop", "lit", see, "catch")); e != api.OK {
+			t.Errorf("%d: %d", n, e)
+		}
+		isStack(t, m, "HANDLER", want, 0)
+	}
+	m.D.Drop(0)
+	m.R.Drop(0)
+	m.D.Push(see)
+	if e := m.Run(define(t, m, "catch")); e != api.OK {
+		t.Error(e)
+	}
+	isStack(t, m, "HANDLER at first", 0, 0)
+	m.D.Drop(0)
+	m.D.Push(7, xt(t, m, "abort"))
+	if e := m.Run(xt(t, m, "catch")); e != api.OK || m.R.Depth() != 0 { // HANDLER is 4 here, the least one
+		t.Error(e)
+	}
+	isStack(t, m, "caught", 7, -1)
+	// A run forgets the handler of the run before.
+	m.D.Drop(0)
+	if e := m.Run(define(t, m, "lit", define(t, m, "lit", 0, ">r", "bye"), "catch")); e != api.OK || !m.Over {
+		t.Error(e)
+	}
+	m.Over = false
+	if e := m.Run(xt(t, m, "abort")); e != api.Abort {
+		t.Error(e)
+	}
+}
+
+// A primitive may be in the last cell of the memory, where no inline number follows.
+func TestInlineAtTheEnd(t *testing.T) {
+	for _, name := range code.Names() {
+		if code.Inline(name) == 0 {
+			continue
+		}
+		for n := range code.Inline(name) {
+			m := made(t, "")
+			at := m.Size() - 8*int64(n+1)
+			m.SetCell(at, xt(t, m, name))
+			m.D.Push(1, 2)
+			m.R.Push(9, 3)
+			if e := m.Run(define(t, m, "branch", at)); e != api.Address || m.IP != m.Size() {
+				t.Errorf("%s: %d, %d", name, e, m.IP)
+			}
+			if m.R.Depth() != 3 {
+				t.Errorf("%s: R has %d", name, m.R.Depth())
+			}
+		}
+	}
+}
+
 func TestOver(t *testing.T) {
 	m := made(t, "")
 	if e := m.Run(define(t, m, "lit", 1, "bye", "lit", 2)); e != api.OK || !m.Over || m.Fuel != 1000-3 {
@@ -762,7 +821,7 @@ func TestObjectCodes(t *testing.T) {
 		{[]any{"lit", at, "(send)", 2}, api.Only}, {[]any{"lit", at, "(send)", 3}, api.Only}, {[]any{"lit", at, "(call)", field}, api.Only},
 		{[]any{"lit", at, "(call)", -8}, api.Only}, {[]any{"lit", at, "(call)", 3}, api.Only}, {[]any{"(call)", add}, api.Under},
 		{[]any{"(super)", a, 9}, api.NoMethod}, {[]any{"(super)", 0, 1}, api.NoMethod}, {[]any{"(super)", a, 2}, api.Only}, {[]any{"(super)", a, 1}, api.Under},
-		{[]any{"lit", a + 8, "new"}, api.NoClass}, {[]any{"lit", at + 8, "classof"}, api.NoClass},
+		{[]any{"lit", a + 8, "new"}, api.NoClass}, {[]any{"lit", at, "(call)", define(t, m, "lit", 5)}, api.Only}, {[]any{"lit", at + 8, "classof"}, api.NoClass},
 	} {
 		m.D.Drop(0)
 		m.R.Drop(0)
@@ -791,6 +850,16 @@ func TestObjectCodes(t *testing.T) {
 	m.D.Push(a)
 	if e := m.Run(xt(t, m, "new")); e != api.Argument {
 		t.Error(e)
+	}
+	m.SetCell(m.Root, 0) // a class, but none of the ROOT
+	m.D.Push(a)
+	if e := m.Run(xt(t, m, "new")); e != api.NoClass {
+		t.Error(e)
+	}
+	m.D.Drop(0)
+	m.R.Drop(0)
+	if e := m.Run(define(t, m, "lit", at, "(call)", define(t, m, "lit", 5))); e != api.Only || m.D.Depth() != 0 || m.R.Depth() != 1 {
+		t.Error(e, m.D.All())
 	}
 }
 

@@ -156,10 +156,12 @@ func TestNoParent(t *testing.T) {
 	root, _ := class.Root(s)
 	at, _ := class.New(s, root, 0, 1)
 	c, _ := class.Read(m, at)
-	for _, t := range []int64{0, c.Table} {
-		m.SetCell(t, 1)
-		table.Put(m, t, table.Entry{Sel: 1, XT: 2, Class: 3})
+	m.SetCell(0, 1)
+	table.Put(m, 0, table.Entry{Sel: 1, XT: 2, Class: 3})
+	if x := Classes(m, root); x != 0 {
+		t.Error(x)
 	}
+	table.Put(m, c.Table, table.Entry{Sel: 1, XT: 2, Class: 3})
 	if x := Classes(m, root); x != at {
 		t.Error(x)
 	}
