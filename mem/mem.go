@@ -1,4 +1,4 @@
-// Package mem implements a flat memory of bytes and cells: layer 1, see doc/01-mem.md.
+// Package mem implements a flat memory of bytes and cells: layer 1, see shared/doc/01-mem.md.
 package mem
 
 import (

@@ -7,7 +7,7 @@ import (
 	"shed/head"
 )
 
-// table returns the words that are executed whether the reader is compiling or not; those of which one is refused do that by themselves.
+// table returns the words of the text interpreter. Whether they are refused is decided here for all that are for definitions alone, or never for them.
 func table() map[string]func(*Outer) api.Code {
 	words := map[string]func(*Outer) api.Code{
 		";":    (*Outer).semicolon,

@@ -110,7 +110,7 @@ func heaps() map[string]does {
 func objects() map[string]does {
 	return map[string]does{
 		"self":    func(m *Machine) api.Code { return m.D.Push(m.Self) },
-		"new":     with((*Machine).make),
+		"new":     with((*Machine).newObject),
 		"classof": with((*Machine).classOf),
 		"(send)":  with((*Machine).sendInline),
 		"(call)":  with((*Machine).callInline),
@@ -394,8 +394,8 @@ func (m *Machine) resize() api.Code {
 	return m.D.Push(a, int64(e))
 }
 
-// make makes an object of a class.
-func (m *Machine) make(c int64) api.Code {
+// newObject makes an object of a class of the ROOT.
+func (m *Machine) newObject(c int64) api.Code {
 	if !class.Is(m.Mem, m.Root, c) {
 		return api.NoClass
 	}
